@@ -1,0 +1,1 @@
+"""Drawntold: tellings of pictures of data."""

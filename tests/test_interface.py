@@ -1,0 +1,72 @@
+"""[2], [4] and the interface: names, parameters and files, equal answers to equal calls."""
+
+import importlib
+import inspect
+import os
+import subprocess
+import sys
+import unittest
+
+from helper import Case
+
+INTERFACE = {
+    "fractions": {
+        "is_fraction": ("value",), "fraction": ("top", "bottom"), "plus": ("one", "other"),
+        "minus": ("one", "other"), "times": ("one", "other"), "over": ("one", "other"),
+        "below": ("one", "other"), "sum_of": ("numbers",), "fraction_text": ("number",),
+        "fraction_told": ("text",),
+    },
+    "tables": {
+        "is_columns": ("value",), "is_row": ("columns", "value"), "is_table": ("value",),
+        "table_fault": ("value",), "rows_over": ("columns",), "row_count": ("columns",),
+        "row_index": ("columns", "row"), "row_at": ("columns", "index"), "plain": ("table",),
+        "reordered": ("table", "order"),
+    },
+    "rowforms": {
+        "is_amount": ("columns", "value"), "is_condition": ("columns", "value"),
+        "is_key": ("columns", "value"), "reckoned": ("columns", "amount", "row"),
+        "holds": ("columns", "condition", "row"), "keyed": ("columns", "key", "row"),
+        "kept_rows": ("table", "condition"),
+    },
+}
+
+CALLS = """
+from drawntold.fractions import *
+from drawntold.tables import *
+from drawntold.rowforms import *
+columns = (("city", ("word", ("rome", "oslo"))), ("age", ("number", 8, 10)))
+table = (columns, (("oslo", 9), ("rome", 10), ("oslo", 8)))
+print(over((1, 2), (-1, 3)), fraction_text((-1, 8)), fraction_told("10/3"), rows_over(columns),
+      plain(table), reordered(table, (1, 0)), kept_rows(table, ("is", 0, "oslo")),
+      table_fault((table, 1)), keyed(columns, ("word", 0), ("rome", 8)))
+"""
+
+
+class InterfaceTests(Case):
+    def test_names_parameters_and_files(self):
+        for module, calls in INTERFACE.items():
+            found = importlib.import_module("drawntold." + module)
+            for name, parameters in calls.items():
+                call = getattr(found, name)
+                self.assertEqual(call.__module__, "drawntold." + module, name)
+                told = inspect.signature(call).parameters.values()
+                self.assertEqual(tuple(part.name for part in told), parameters, name)
+                for part in told:
+                    self.assertEqual(part.kind, part.POSITIONAL_OR_KEYWORD, name)
+                    self.assertIs(part.default, part.empty, name)
+
+    def test_equal_calls_tell_equal_answers_in_other_processes(self):
+        answers = set()
+        for seed in ("0", "1", "77"):
+            told = subprocess.run(
+                [sys.executable, "-c", CALLS + CALLS], capture_output=True, text=True, check=True,
+                env={**os.environ, "PYTHONHASHSEED": seed},
+            )
+            first, second = told.stdout.splitlines()
+            self.assertEqual(first, second)
+            answers.add(first)
+        self.assertEqual(len(answers), 1)
+
+
+if __name__ == "__main__":
+    unittest.main()
