@@ -68,16 +68,11 @@ def fraction_text(number):
     if not is_fraction(number):
         raise InvalidFraction("number is a fraction")
     top, bottom = number
-    sign = "-" if top < 0 else ""
-    places = _places(bottom)
+    places = places_of(bottom)
     if places is None:
+        sign = "-" if top < 0 else ""
         return sign + _digits(abs(top)) + "/" + _digits(bottom)
-    digits = _digits(abs(top) * _power_of_ten(places) // bottom)
-    if places == 0:
-        return sign + digits
-    digits = digits.zfill(places + 1)
-    point = len(digits) - places
-    return sign + digits[:point] + "." + digits[point:]
+    return text_with_places(number, places)
 
 
 def fraction_told(text):
@@ -91,6 +86,37 @@ def fraction_told(text):
     if number is None:
         raise InvalidText(len(text))
     return number
+
+
+def places_of(bottom):
+    """How many digits behind a point tell each fraction with this bottom; None if none do."""
+    twos, rest = _divided_out(bottom, 2)
+    fives, rest = _divided_out(rest, 5)
+    return max(twos, fives) if rest == 1 else None
+
+
+def text_with_places(number, places):
+    """The text of a right fraction with so many digits behind the point, which are enough."""
+    top, bottom = number
+    sign = "-" if top < 0 else ""
+    digits = _digits(abs(top) * power_of_ten(places) // bottom)
+    if places == 0:
+        return sign + digits
+    digits = digits.zfill(places + 1)
+    point = len(digits) - places
+    return sign + digits[:point] + "." + digits[point:]
+
+
+def power_of_ten(exponent):
+    """Ten to the power of an integer from 0 on."""
+    power = 1
+    square = 10
+    while exponent > 0:
+        if exponent % 2 == 1:
+            power = power * square
+        square = square * square
+        exponent = exponent // 2
+    return power
 
 
 def _check_both(one, other):
@@ -116,13 +142,6 @@ def _unreduced_total(numbers):
     return (top * other_bottom + other_top * bottom, bottom * other_bottom)
 
 
-def _places(bottom):
-    """How many digits behind a point tell each fraction with this bottom; None if none do."""
-    twos, rest = _divided_out(bottom, 2)
-    fives, rest = _divided_out(rest, 5)
-    return max(twos, fives) if rest == 1 else None
-
-
 def _divided_out(number, prime):
     """How often a prime divides an integer above 0, and what is left then."""
     count = 0
@@ -130,10 +149,6 @@ def _divided_out(number, prime):
         number = number // prime
         count += 1
     return (count, number)
-
-
-def _power_of_ten(exponent):
-    return _integer("1" + "0" * exponent)
 
 
 def _digits(number):
@@ -201,14 +216,14 @@ def _quotient_told(digits):
     if bottom == "":
         return None
     number = (_integer(top), _integer(bottom))
-    return number if is_fraction(number) and _places(number[1]) is None else None
+    return number if is_fraction(number) and places_of(number[1]) is None else None
 
 
 def _point_told(digits):
     whole, _, behind = digits.partition(".")
     if behind == "" or behind.endswith("0"):
         return None
-    return _reduced(_integer(whole + behind), _power_of_ten(len(behind)))
+    return _reduced(_integer(whole + behind), power_of_ten(len(behind)))
 
 
 def _integer_told(digits):

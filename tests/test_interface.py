@@ -28,14 +28,37 @@ INTERFACE = {
         "holds": ("columns", "condition", "row"), "keyed": ("columns", "key", "row"),
         "kept_rows": ("table", "condition"),
     },
+    "tellings": {
+        "telling_fault": ("columns", "value"), "is_telling": ("columns", "value"),
+        "columns_in": ("columns", "telling"), "retold": ("columns", "telling", "order"),
+        "swapped": ("columns", "telling", "part", "what"),
+    },
+    "meaning": {
+        "data": ("telling", "table"), "groups": ("telling", "table"), "kept_in": ("telling", "table"),
+    },
+    "pictures": {
+        "picture": ("telling", "table"), "place_on": ("axis", "value"), "band_on": ("axis", "word"),
+        "told_data": ("picture",),
+    },
+    "ticks": {
+        "steps_within": ("low", "high"), "ticks": ("low", "high", "wished"),
+        "span_of": ("numbers", "with_nought"), "placed": ("number", "low", "high"),
+        "tick_texts": ("numbers",),
+    },
 }
 
 CALLS = """
 from drawntold.fractions import *
 from drawntold.tables import *
 from drawntold.rowforms import *
+from drawntold.tellings import *
+from drawntold.meaning import *
+from drawntold.pictures import *
 columns = (("city", ("word", ("rome", "oslo"))), ("age", ("number", 8, 10)))
 table = (columns, (("oslo", 9), ("rome", 10), ("oslo", 8)))
+telling = ("bar", ("same", ("one",), ("one",)), ("of", 1), ("sum", ("of", 1)), ("word", 0), ("word", 0))
+print(columns_in(columns, telling), retold(columns, telling, (1, 0)), data(telling, table),
+      groups(telling, table), picture(telling, table), told_data(picture(telling, table)), end=" ")
 print(over((1, 2), (-1, 3)), fraction_text((-1, 8)), fraction_told("10/3"), rows_over(columns),
       plain(table), reordered(table, (1, 0)), kept_rows(table, ("is", 0, "oslo")),
       table_fault((table, 1)), keyed(columns, ("word", 0), ("rome", 8)))

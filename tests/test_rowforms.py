@@ -8,7 +8,12 @@ from drawntold.errors import InvalidColumns, InvalidPart, InvalidTable
 from drawntold.rowforms import (
     holds, is_amount, is_condition, is_key, kept_rows, keyed, reckoned,
 )
-from helper import ODD_VALUES, WRONG_COLUMNS, WRONG_ROWS, Case, Number, Row, Word
+from helper import (
+    ALWAYS, AMOUNTS, CONDITIONS, KEYS, NEVER, ODD_VALUES, ONE, WRONG_AMOUNTS, WRONG_COLUMNS,
+    WRONG_CONDITIONS, WRONG_KEYS, WRONG_ROWS, YEARS, Case, bush, chain, number, refusals,
+)
+from helper import FORMULA_COLUMNS as COLUMNS
+from helper import FORMULA_ROW as ROW
 
 EXAMPLES = """
 >>> columns = (("city", ("word", ("rome", "oslo"))), ("age", ("number", 8, 10)))
@@ -20,115 +25,6 @@ EXAMPLES = """
 >>> [holds(columns, old, ("oslo", 9)), kept_rows(table, old)[1], is_amount(columns, ("of", 0)), is_condition(columns, ("is", 0, "bonn"))]
 [True, (('oslo', 9),), False, False]
 """
-
-COLUMNS = (
-    ("city", ("word", ("rome", "oslo"))), ("age", ("number", 8, 10)),
-    ("hue", ("word", ("red", "blue"))), ("cold", ("number", -20, 5)),
-)
-ROW = ("oslo", 9, "red", -7)
-ONE = ("one",)
-ALWAYS = ("same", ONE, ONE)
-NEVER = ("below", ONE, ONE)
-AGE = ("of", 1)
-COLD = ("of", 3)
-
-
-def number(n):
-    return ("number", n)
-
-
-# Amounts and what they come to of ROW, worked out by hand.
-AMOUNTS = (
-    (ONE, 1), (number(0), 0), (number(1000), 1000), (number(-1000), -1000), (number(-3), -3),
-    (AGE, 9), (COLD, -7),
-    (("add", AGE, COLD), 2), (("add", COLD, ONE), -6), (("add", number(1000), number(1000)), 2000),
-    (("times", 20, AGE), 180), (("times", -20, AGE), -180), (("times", 0, COLD), 0),
-    (("times", -1, COLD), 7), (("times", 20, ("times", 20, number(-1000))), -400000),
-    (("bin", AGE, 1), 9), (("bin", AGE, 2), 8), (("bin", AGE, 9), 9), (("bin", AGE, 10), 0),
-    (("bin", AGE, 100), 0), (("bin", COLD, 1), -7), (("bin", COLD, 2), -8),
-    (("bin", COLD, 7), -7), (("bin", COLD, 10), -10), (("bin", COLD, 100), -100),
-    (("bin", number(-1), 100), -100), (("bin", number(0), 100), 0), (("bin", number(99), 100), 0),
-    (("bin", number(100), 100), 100), (("bin", number(-100), 100), -100),
-    (("bin", number(-101), 100), -200), (("bin", number(-1000), 3), -1002),
-    (("times", -2, ("bin", ("add", COLD, ("times", 3, ONE)), 3)), 12),
-    (("add", ("bin", ("times", -1, AGE), 4), ("times", 2, ("bin", AGE, 4))), 4),
-)
-# Conditions and whether they hold of ROW.
-CONDITIONS = (
-    (("is", 0, "oslo"), True), (("is", 0, "rome"), False), (("is", 2, "red"), True),
-    (("is", 2, "blue"), False), (ALWAYS, True), (NEVER, False),
-    (("below", COLD, AGE), True), (("below", AGE, COLD), False), (("below", AGE, AGE), False),
-    (("below", AGE, number(10)), True), (("below", AGE, number(9)), False),
-    (("same", AGE, number(9)), True), (("same", AGE, number(-9)), False),
-    (("same", ("add", AGE, COLD), number(2)), True), (("not", ALWAYS), False),
-    (("not", NEVER), True), (("not", ("not", ALWAYS)), True),
-    (("and", ALWAYS, ALWAYS), True), (("and", ALWAYS, NEVER), False),
-    (("and", NEVER, ALWAYS), False), (("and", NEVER, NEVER), False),
-    (("or", ALWAYS, ALWAYS), True), (("or", ALWAYS, NEVER), True), (("or", NEVER, ALWAYS), True),
-    (("or", NEVER, NEVER), False),
-    (("and", ("or", NEVER, ("is", 2, "red")), ("not", ("below", AGE, COLD))), True),
-    (("or", ("and", NEVER, ALWAYS), ("not", ("is", 0, "oslo"))), False),
-)
-KEYS = AMOUNTS + ((("word", 0), "oslo"), (("word", 2), "red"))
-
-WRONG_AMOUNTS = (
-    number(1001), number(-1001), number(True), number("1"), number(None), number((1,)),
-    number(10 ** 89), ("number",), ("number", 1, 1), number(Number(1)),
-    ("one", ()), ("One",), (Word("one"),), Row(("one",)), ["number", 1], ("two",), "one",
-    ("of",), ("of", 0), ("of", 2), ("of", 4), ("of", -1), ("of", -3), ("of", True), ("of", "age"),
-    ("of", None), ("of", (1,)), ("of", 1, 1), ("of", Number(1)), ("of", 10 ** 89),
-    ("add",), ("add", ONE), ("add", ONE, ONE, ONE), ("add", ONE, 1), ("add", 1, ONE),
-    ("add", ONE, ("of", 0)), ("add", ["one"], ONE), ("add", ALWAYS, ONE), ("add", ("word", 0), ONE),
-    ["add", ONE, ONE], ("times",), ("times", 2), ("times", 21, ONE), ("times", -21, ONE),
-    ("times", ONE, 2), ("times", True, ONE), ("times", "2", ONE), ("times", None, ONE),
-    ("times", 2, 3), ("times", 2, ONE, ONE), ("times", ONE, ONE), ("times", 2, ALWAYS),
-    ("times", Number(2), ONE),
-    ("bin",), ("bin", ONE), ("bin", ONE, 0), ("bin", ONE, 101), ("bin", ONE, -1), ("bin", 2, ONE),
-    ("bin", ONE, True), ("bin", ONE, "2"), ("bin", ONE, None), ("bin", ONE, ONE), ("bin", 3, 2),
-    ("bin", ONE, 2, 2), ("bin", ("is", 0, "rome"), 2), ("bin", ONE, Number(2)),
-    ("minus", ONE, ONE), ("", ONE), (None,), ((), ONE), (ONE, ONE), (("one",),), ([],),
-)
-WRONG_CONDITIONS = (
-    ("is", 0, "bonn"), ("is", 0, "red"), ("is", 2, "rome"), ("is", 1, "rome"), ("is", 1, 9),
-    ("is", 4, "rome"), ("is", -4, "rome"), ("is", False, "rome"), ("is", "city", "rome"),
-    ("is", None, "rome"), ("is", 0, None), ("is", 0, 0), ("is", 0, ("rome",)), ("is", 0, ["rome"]),
-    ("is", 0, ""), ("is", 0, Word("rome")), ("is", 0), ("is",), ("is", 0, "rome", "oslo"),
-    ["is", 0, "rome"], ("is", (0,), "rome"), ("is", 10 ** 89, "rome"), ("is", Number(0), "rome"),
-    ("below",), ("below", ONE), ("below", ONE, ONE, ONE), ("below", ONE, 1), ("below", 1, ONE),
-    ("below", ("of", 0), ONE), ("below", ALWAYS, ALWAYS), ("below", ("word", 0), ("word", 0)),
-    ("same",), ("same", ONE), ("same", ONE, ONE, ONE), ("same", ("word", 0), ("word", 0)),
-    ("same", ONE, ALWAYS), ("same", 1, 1), ("same", ("of", 1), ("of", 2)), ["same", ONE, ONE],
-    ("not",), ("not", ONE), ("not", ALWAYS, ALWAYS), ("not", None), ("not", True), ("not", ["is"]),
-    ("and",), ("and", ALWAYS), ("and", ALWAYS, ALWAYS, ALWAYS), ("and", ALWAYS, ONE),
-    ("and", ONE, ALWAYS), ("and", True, True), ["and", ALWAYS, ALWAYS],
-    ("or",), ("or", ALWAYS), ("or", ALWAYS, ALWAYS, ALWAYS), ("or", ALWAYS, ("of", 1)),
-    ("or", ONE, ONE), ("xor", ALWAYS, ALWAYS), (Word("not"), ALWAYS), Row(ALWAYS), ("above", ONE, ONE),
-)
-WRONG_KEYS = (
-    ("word",), ("word", 1), ("word", 3), ("word", 4), ("word", -4), ("word", -2), ("word", False),
-    ("word", "city"), ("word", None), ("word", 0, 0), ["word", 0], ("word", (0,)), ("Word", 0),
-    ("words", 0), (Word("word"), 0), Row(("word", 0)), ("word", Number(0)), ("word", 10 ** 89),
-    ("add", ("word", 0), ONE), ("bin", ("word", 0), 1), "city", 0,
-)
-
-
-def chain(count):
-    """An amount with so many tuples in it."""
-    return ("times", 1, chain(count - 1)) if count > 1 else AGE
-
-
-def bush(count):
-    """An amount with so many tuples in it, an odd number, parted in two as evenly as goes."""
-    if count == 1:
-        return ONE
-    half = (count - 1) // 2
-    half += 1 - half % 2
-    return ("add", bush(half), bush(count - 1 - half))
-
-
-def refusals(count):
-    """A condition with so many tuples in it, four or more."""
-    return ("not", refusals(count - 1)) if count > 3 else ALWAYS
 
 
 class FormulaTests(Case):
@@ -171,7 +67,7 @@ class FormulaTests(Case):
 
     def test_wrong_conditions(self):
         table = (COLUMNS, (ROW,))
-        for value in ODD_VALUES + WRONG_CONDITIONS + (ONE, AGE, ("word", 0)):
+        for value in ODD_VALUES + WRONG_CONDITIONS + (ONE, YEARS, ("word", 0)):
             self.same(is_condition(COLUMNS, value), False, str(value)[:99])
             self.same(is_condition(COLUMNS, ("not", value)), False, str(value)[:99])
             self.same(is_condition(COLUMNS, ("or", ALWAYS, value)), False, str(value)[:99])
@@ -248,7 +144,7 @@ class FormulaTests(Case):
         self.same(is_amount(value=ONE, columns=COLUMNS), True)
         self.same(is_condition(value=ALWAYS, columns=COLUMNS), True)
         self.same(is_key(value=ONE, columns=COLUMNS), True)
-        self.same(reckoned(row=ROW, amount=AGE, columns=COLUMNS), 9)
+        self.same(reckoned(row=ROW, amount=YEARS, columns=COLUMNS), 9)
         self.same(holds(row=ROW, condition=NEVER, columns=COLUMNS), False)
         self.same(keyed(row=ROW, key=("word", 0), columns=COLUMNS), "oslo")
         self.same(kept_rows(condition=ALWAYS, table=(COLUMNS, (ROW,))), (COLUMNS, (ROW,)))
@@ -261,9 +157,9 @@ class KeptRowsTests(Case):
         for condition, wanted in (
             (ALWAYS, rows), (NEVER, ()), (("is", 0, "oslo"), (rows[0], rows[2], rows[3])),
             (("not", ("is", 0, "oslo")), (rows[1], rows[4])),
-            (("below", AGE, number(9)), (rows[2], rows[4])),
-            (("same", AGE, number(9)), (rows[0], rows[3])),
-            (("or", ("is", 0, "rome"), ("same", AGE, number(9))),
+            (("below", YEARS, number(9)), (rows[2], rows[4])),
+            (("same", YEARS, number(9)), (rows[0], rows[3])),
+            (("or", ("is", 0, "rome"), ("same", YEARS, number(9))),
              (rows[0], rows[1], rows[3], rows[4])),
         ):
             self.same(kept_rows(table, condition), (COLUMNS[:2], wanted), condition)
