@@ -12,15 +12,7 @@ WHOLE = (100, 1)
 def picture(telling, table):
     """The picture of a telling and a table."""
     told = data(telling, table)
-    mark = telling[0]
-    if not told:
-        return (mark, ())
-    axes = (_across_axis(told), _up_axis(mark, told))
-    panels = []
-    for side in sorted(set([entry[0] for entry in told])):
-        entries = [entry for entry in told if entry[0] == side]
-        panels.append((side, axes, tuple(_marks(mark, axes, entries, told))))
-    return (mark, tuple(panels))
+    return picture_of(telling[0], told)
 
 
 def place_on(axis, value):
@@ -48,6 +40,18 @@ def told_data(picture):
         for x, y, hue in _spots(mark, axes, marks, hues):
             told.append((side, hue, _across_at(axes[0], x), _number_at(axes[1], y)))
     return tuple(told)
+
+
+def picture_of(mark, told):
+    """The picture that a mark makes of right data."""
+    if not told:
+        return (mark, ())
+    axes = (_across_axis(told), _up_axis(mark, told))
+    panels = []
+    for side in sorted(set([entry[0] for entry in told])):
+        entries = [entry for entry in told if entry[0] == side]
+        panels.append((side, axes, tuple(_marks(mark, axes, entries, told))))
+    return (mark, tuple(panels))
 
 
 def hues_of(picture):

@@ -65,7 +65,7 @@ def row_index(columns, row):
     """The index of a row among all rows of the columns."""
     check_columns(columns)
     check_row(columns, row)
-    return _index(columns, row)
+    return index_of(columns, row)
 
 
 def row_at(columns, index):
@@ -73,15 +73,15 @@ def row_at(columns, index):
     check_columns(columns)
     if not is_between(index, 0, _count(columns) - 1):
         raise InvalidPart("index is that of a row of the columns")
-    return _row(columns, index)
+    return row_of(columns, index)
 
 
 def plain(table):
     """The table with its rows sorted as in rows_over."""
     check_table(table)
     columns, rows = table
-    indexes = sorted([_index(columns, row) for row in rows])
-    return (columns, tuple([_row(columns, index) for index in indexes]))
+    indexes = sorted([index_of(columns, row) for row in rows])
+    return (columns, tuple([row_of(columns, index) for index in indexes]))
 
 
 def reordered(table, order):
@@ -124,6 +124,25 @@ def fits(columns, value):
     if not is_tuple_of(value, len(columns)):
         return False
     return all([_is_value(kind, part) for (_, kind), part in zip(columns, value)])
+
+
+def index_of(columns, row):
+    """The index of a right row among all rows of right columns."""
+    index = 0
+    for (_, kind), value in zip(columns, row):
+        values = _values(kind)
+        index = index * len(values) + values.index(value)
+    return index
+
+
+def row_of(columns, index):
+    """The row of right columns with a right index."""
+    row = ()
+    for _, kind in reversed(columns):
+        values = _values(kind)
+        index, at = divmod(index, len(values))
+        row = (values[at],) + row
+    return row
 
 
 def is_index_of(columns, kind_word, value):
@@ -181,20 +200,3 @@ def _count(columns):
     for _, kind in columns:
         count = count * len(_values(kind))
     return count
-
-
-def _index(columns, row):
-    index = 0
-    for (_, kind), value in zip(columns, row):
-        values = _values(kind)
-        index = index * len(values) + values.index(value)
-    return index
-
-
-def _row(columns, index):
-    row = ()
-    for _, kind in reversed(columns):
-        values = _values(kind)
-        index, at = divmod(index, len(values))
-        row = (values[at],) + row
-    return row

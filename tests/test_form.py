@@ -18,7 +18,7 @@ LIBRARY = {
 BUILTINS = set(
     "len range enumerate zip min max sum abs sorted reversed int str bool list tuple dict set "
     "isinstance ord repr any all divmod type map iter next ValueError KeyError IndexError "
-    "LookupError ZeroDivisionError".split()
+    "LookupError ZeroDivisionError property".split()
 )
 METHODS = set(
     "append clear copy count endswith extend find get index insert isalnum isalpha isdigit "
@@ -133,6 +133,24 @@ class FormTests(unittest.TestCase):
         for where, node in self.nodes(ast.Call):
             if isinstance(node.func, ast.Attribute):
                 self.assertIn(node.func.attr, METHODS | own, where)
+
+    def test_decorators_stand_over_properties_alone(self):
+        for where, node in self.nodes(ast.FunctionDef, ast.ClassDef):
+            for decorator in node.decorator_list:
+                self.assertIsInstance(decorator, ast.Name, where)
+                self.assertEqual(decorator.id, "property", where)
+
+    def test_files_do_not_import_from_each_other(self):
+        imports = {name: set() for name in self.trees}
+        for name, tree in self.trees.items():
+            for node in tree.body:
+                if isinstance(node, ast.ImportFrom) and node.module not in LIBRARY:
+                    imports[name].add(node.module.split(".")[1] + ".py")
+        while imports:
+            last = [name for name, wanted in imports.items() if not wanted & set(imports)]
+            self.assertTrue(last, imports)
+            for name in last:
+                del imports[name]
 
     def test_is_stands_beside_none_true_false(self):
         for where, node in self.nodes(ast.Compare):

@@ -45,6 +45,20 @@ INTERFACE = {
         "span_of": ("numbers", "with_nought"), "placed": ("number", "low", "high"),
         "tick_texts": ("numbers",),
     },
+    "forms": {"form": ("columns", "telling")},
+    "sameness": {"alike": ("columns", "telling", "other_telling")},
+    "back": {
+        "is_heap": ("columns", "value"), "heap_of": ("table",),
+        "heap_data": ("columns", "telling", "heap"), "tells_back": ("columns", "telling"),
+        "led_back": ("columns", "telling", "told"),
+    },
+}
+# Classes: their file, what makes one, their methods, their properties.
+CLASSES = {
+    "Kept": ("kept", ("table", "telling"), {
+        "put_in": ("index", "row"), "take_out": ("index",), "change": ("index", "row"),
+        "retell": ("telling",), "undo": (), "redo": (), "moved": (), "drawn": (), "fork": (),
+    }, ("table", "telling", "data", "picture", "edits")),
 }
 
 CALLS = """
@@ -54,6 +68,9 @@ from drawntold.rowforms import *
 from drawntold.tellings import *
 from drawntold.meaning import *
 from drawntold.pictures import *
+from drawntold.sameness import *
+from drawntold.back import *
+from drawntold.kept import *
 columns = (("city", ("word", ("rome", "oslo"))), ("age", ("number", 8, 10)))
 table = (columns, (("oslo", 9), ("rome", 10), ("oslo", 8)))
 telling = ("bar", ("same", ("one",), ("one",)), ("of", 1), ("sum", ("of", 1)), ("word", 0), ("word", 0))
@@ -61,22 +78,42 @@ print(columns_in(columns, telling), retold(columns, telling, (1, 0)), data(telli
       groups(telling, table), picture(telling, table), told_data(picture(telling, table)), end=" ")
 print(over((1, 2), (-1, 3)), fraction_text((-1, 8)), fraction_told("10/3"), rows_over(columns),
       plain(table), reordered(table, (1, 0)), kept_rows(table, ("is", 0, "oslo")),
-      table_fault((table, 1)), keyed(columns, ("word", 0), ("rome", 8)))
+      table_fault((table, 1)), keyed(columns, ("word", 0), ("rome", 8)), end=" ")
+each = ("point", telling[1], ("of", 1), ("each", ("of", 1)), ("word", 0), None)
+kept = Kept(table, telling)
+kept.retell(each)
+kept.take_out(1)
+print(form(columns, telling), alike(columns, telling, each), heap_of(table), tells_back(columns, each),
+      heap_data(columns, each, heap_of(table)), kept.moved(), kept.drawn(), kept.fork().data)
 """
 
 
 class InterfaceTests(Case):
+    def takes(self, call, parameters):
+        """A call takes just these parameters, by position or by name, without defaults."""
+        told = inspect.signature(call).parameters.values()
+        self.assertEqual(tuple(part.name for part in told), parameters, call)
+        for part in told:
+            self.assertEqual(part.kind, part.POSITIONAL_OR_KEYWORD, call)
+            self.assertIs(part.default, part.empty, call)
+
     def test_names_parameters_and_files(self):
         for module, calls in INTERFACE.items():
             found = importlib.import_module("drawntold." + module)
             for name, parameters in calls.items():
                 call = getattr(found, name)
                 self.assertEqual(call.__module__, "drawntold." + module, name)
-                told = inspect.signature(call).parameters.values()
-                self.assertEqual(tuple(part.name for part in told), parameters, name)
-                for part in told:
-                    self.assertEqual(part.kind, part.POSITIONAL_OR_KEYWORD, name)
-                    self.assertIs(part.default, part.empty, name)
+                self.takes(call, parameters)
+
+    def test_classes(self):
+        for name, (module, parameters, methods, properties) in CLASSES.items():
+            made = getattr(importlib.import_module("drawntold." + module), name)
+            self.assertEqual(made.__module__, "drawntold." + module, name)
+            self.takes(made, parameters)
+            for method, method_parameters in methods.items():
+                self.takes(vars(made)[method], ("self",) + method_parameters)
+            for told in properties:
+                self.assertIsInstance(vars(made)[told], property, told)
 
     def test_equal_calls_tell_equal_answers_in_other_processes(self):
         answers = set()
