@@ -31,12 +31,9 @@ def _parting_pair(word, other_word, rows):
     """The least pair of indexes of rows that two unlike measures part, None if there is none."""
     firsts = _first_indexes(rows)
     for index, row in enumerate(rows):
-        if row is None:
-            continue
-        indexes = firsts[row[:3]]
-        # A later row of one place and amount is parted from none that the first one is not.
-        if indexes[row[3]] < index:
-            continue
+        # The first amount that parts this row has its first row here or behind, since any row
+        # ahead of this one that parts it would have been parted from it already.
+        indexes = firsts[row[:3]] if row is not None else {}
         for amount in indexes:
             if _are_parted(word, other_word, sorted([row[3], amount])):
                 return (index, indexes[amount])

@@ -8,7 +8,7 @@ from drawntold.values import is_between, is_headed, is_tuple_of
 MEMBERS = 6
 MARKS = ("point", "bar", "line")
 WORTHS = ("sum", "least", "most", "mean")
-# With a word ahead of them, the second member is the index of a column, and so it is nowhere else.
+# With a word ahead of them, the second member tells a column, and so it is nowhere else.
 AHEAD_OF_COLUMN = ("is", "of", "word")
 
 
@@ -31,14 +31,14 @@ def is_telling(columns, value):
 def columns_in(columns, telling):
     """The indexes of the columns that are written in a telling."""
     check_telling(columns, telling)
-    return tuple(sorted(set(_columns_written(telling))))
+    return tuple(sorted(set(columns_written(telling))))
 
 
 def retold(columns, telling, order):
     """The telling for the columns in another sequence."""
     check_telling(columns, telling)
     check_order(columns, order)
-    return _rewritten(telling, order)
+    return rewritten(telling, order)
 
 
 def swapped(columns, telling, part, what):
@@ -57,6 +57,24 @@ def check_telling(columns, telling):
     fault = telling_fault(columns, telling)
     if fault is not None:
         raise InvalidTelling(fault)
+
+
+def columns_written(part):
+    """The columns in a part of a telling, as they are told there, as often as they stand there."""
+    if type(part) != tuple:
+        return []
+    if part[0] in AHEAD_OF_COLUMN:
+        return [part[1]]
+    return [column for within in part for column in columns_written(within)]
+
+
+def rewritten(part, order):
+    """A part of a telling, with each column told by its index in another sequence of them."""
+    if type(part) != tuple:
+        return part
+    if part[0] in AHEAD_OF_COLUMN:
+        return (part[0], order.index(part[1])) + part[2:]
+    return tuple([rewritten(within, order) for within in part])
 
 
 def _is_right(columns, telling, part):
@@ -89,21 +107,3 @@ def _is_measure(columns, mark, value):
 
 def _is_key_by_word(columns, value):
     return is_headed(value, "word", 2) and is_key(columns, value)
-
-
-def _columns_written(part):
-    """The indexes of the columns in a part of a right telling, as often as they stand there."""
-    if type(part) != tuple:
-        return []
-    if part[0] in AHEAD_OF_COLUMN:
-        return [part[1]]
-    return [index for within in part for index in _columns_written(within)]
-
-
-def _rewritten(part, order):
-    """A part of a right telling, with the columns' indexes in another sequence of them."""
-    if type(part) != tuple:
-        return part
-    if part[0] in AHEAD_OF_COLUMN:
-        return (part[0], order.index(part[1])) + part[2:]
-    return tuple([_rewritten(within, order) for within in part])

@@ -52,6 +52,19 @@ INTERFACE = {
         "heap_data": ("columns", "telling", "heap"), "tells_back": ("columns", "telling"),
         "led_back": ("columns", "telling", "told"),
     },
+    "seen": {
+        "hidden": ("telling", "table"), "piles": ("telling", "table"), "areas": ("telling", "table"),
+        "warned": ("telling", "table"),
+    },
+    "sheet": {
+        "sheet": ("told", "panel", "wide", "tall"), "legend": ("told",),
+        "rulers": ("told", "panel", "wide", "tall"), "plate": ("told", "panel", "wide", "tall"),
+    },
+    "texts": {
+        "columns_told": ("text",), "table_told": ("text",), "columns_text": ("columns",),
+        "table_text": ("table",), "telling_told": ("columns", "text"),
+        "telling_text": ("columns", "telling"), "picture_told": ("text",), "picture_text": ("picture",),
+    },
 }
 # Classes: their file, what makes one, their methods, their properties.
 CLASSES = {
@@ -59,6 +72,7 @@ CLASSES = {
         "put_in": ("index", "row"), "take_out": ("index",), "change": ("index", "row"),
         "retell": ("telling",), "undo": (), "redo": (), "moved": (), "drawn": (), "fork": (),
     }, ("table", "telling", "data", "picture", "edits")),
+    "Console": ("console", (), {"execute": ("command",)}, ()),
 }
 
 CALLS = """
@@ -71,6 +85,10 @@ from drawntold.pictures import *
 from drawntold.sameness import *
 from drawntold.back import *
 from drawntold.kept import *
+from drawntold.seen import *
+from drawntold.sheet import *
+from drawntold.texts import *
+from drawntold.console import *
 columns = (("city", ("word", ("rome", "oslo"))), ("age", ("number", 8, 10)))
 table = (columns, (("oslo", 9), ("rome", 10), ("oslo", 8)))
 telling = ("bar", ("same", ("one",), ("one",)), ("of", 1), ("sum", ("of", 1)), ("word", 0), ("word", 0))
@@ -84,7 +102,14 @@ kept = Kept(table, telling)
 kept.retell(each)
 kept.take_out(1)
 print(form(columns, telling), alike(columns, telling, each), heap_of(table), tells_back(columns, each),
-      heap_data(columns, each, heap_of(table)), kept.moved(), kept.drawn(), kept.fork().data)
+      heap_data(columns, each, heap_of(table)), kept.moved(), kept.drawn(), kept.fork().data, end=" ")
+print(hidden(each, table), piles(each, table), areas(telling, table), warned(telling, table),
+      plate(kept.picture, 0, 9, 5), legend(kept.picture), end=" ")
+desk = Console()
+print([desk.execute(command) for command in (
+    "draw\\n" + telling_text(columns, telling) + "\\n" + table_text(table), "insert 1 rome 9", "picture",
+    "drawn", "back",
+)])
 """
 
 
